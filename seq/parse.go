@@ -4,6 +4,7 @@ import (
 	"strings"
 
 	"pilgrim/api"
+	"pilgrim/base"
 )
 
 // eachLine hands the lines on, and tells the error and the number of the first one that is wrong.
@@ -32,7 +33,7 @@ func (p *parser) line(line string) api.Errno {
 	if len(p.seqs) == 0 {
 		return api.ErrLine
 	}
-	return eachBase(line, p.base)
+	return base.Each(line, p.base)
 }
 
 func (p *parser) begin(name string) api.Errno {
@@ -50,7 +51,7 @@ func (p *parser) begin(name string) api.Errno {
 }
 
 func (p *parser) base(place, number int) {
-	p.bases = append(p.bases, letters[number])
+	p.bases = append(p.bases, base.Letters[number])
 }
 
 // finish gives the sequence that was begun last its bases.

@@ -1,7 +1,10 @@
 // Package seq: sequences and their words: see DOC.md.
 package seq
 
-import "pilgrim/api"
+import (
+	"pilgrim/api"
+	"pilgrim/base"
+)
 
 // Parse reads a text of sequences (P3).
 func Parse(text string) ([]api.Seq, api.Errno, int) {
@@ -19,7 +22,7 @@ func Parse(text string) ([]api.Seq, api.Errno, int) {
 // Turned is bases read from the other side (P4).
 func Turned(bases string) (string, api.Errno) {
 	t := turner{turned: make([]byte, len(bases))}
-	if e := eachBase(bases, t.base); e != api.OK {
+	if e := base.Each(bases, t.base); e != api.OK {
 		return "", e
 	}
 	return string(t.turned), api.OK
@@ -32,7 +35,7 @@ func Words(bases string, k int, w int) ([]api.Word, api.Errno) {
 	}
 	p := picker{k: k, w: w}
 	s := scanner{k: k, each: p.word}
-	if e := eachBase(bases, s.base); e != api.OK {
+	if e := base.Each(bases, s.base); e != api.OK {
 		return nil, e
 	}
 	return p.picked, api.OK

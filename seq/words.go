@@ -1,6 +1,9 @@
 package seq
 
-import "pilgrim/api"
+import (
+	"pilgrim/api"
+	"pilgrim/base"
+)
 
 const factor = 2654435761
 
@@ -13,7 +16,7 @@ type scanner struct {
 }
 
 func (s *scanner) base(place, number int) {
-	if number == anyBase {
+	if number == base.Any {
 		s.run = 0
 		return
 	}
